@@ -1,0 +1,1 @@
+"""Outpressed: the presser that overtakes every machine."""
