@@ -65,3 +65,133 @@ def are_tuples(value):
     if isinstance(value, tuple):
         return all(are_tuples(item) for item in value)
     return not isinstance(value, (list, dict, set))
+
+
+# The machine of the document's examples.
+EXAMPLE = [[(1, ""), (0, "1")], [(0, "00"), (0, "01")]]
+
+
+def common(one, two):
+    """The longest common beginning of two strings."""
+    k = 0
+    while k < min(len(one), len(two)) and one[k] == two[k]:
+        k += 1
+    return one[:k]
+
+
+def compared(one, two):
+    """The leads of two runs that have written these bits, or None, by point 24."""
+    shared = len(common(one, two))
+    if shared < len(one) and shared < len(two):
+        return None
+    return one[shared:], two[shared:]
+
+
+def reached_slowly(machine):
+    """The reached standings."""
+    found = {0}
+    while True:
+        further = {following for standing in found for following, _ in machine.rules[standing]} - found
+        if not further:
+            return sorted(found)
+        found |= further
+
+
+def starts_slowly(machine):
+    """All (standing, word, other word, starting pair or None), by point 24."""
+    found = []
+    for standing in reached_slowly(machine):
+        rules = machine.rules[standing]
+        for j in range(len(rules)):
+            for i in range(j):
+                leads = compared(rules[i][1], rules[j][1])
+                pair = None if leads is None else (rules[i][0], rules[j][0]) + leads
+                found.append((standing, rules[i][1], rules[j][1], pair))
+    return found
+
+
+def readings_slowly(machine, pair):
+    """All (side, letter, bits, other bits, next pair or None), by point 24."""
+    found = []
+    for side in (0, 1):
+        for k, letter in enumerate(machine.alphabet):
+            if pair[2 + side] != "":
+                continue
+            standings, strings = list(pair[:2]), list(pair[2:])
+            following, word = machine.rules[standings[side]][k]
+            standings[side] = following
+            strings[side] += word
+            leads = compared(*strings)
+            found.append((side, letter, strings[0], strings[1],
+                          None if leads is None else tuple(standings) + leads))
+    return found
+
+
+def table_slowly(machine):
+    """All pairs that are reached from a starting pair."""
+    table = {pair for _, _, _, pair in starts_slowly(machine)} - {None}
+    while True:
+        further = {after for pair in table for *_, after in readings_slowly(machine, pair)} - {None} - table
+        if not further:
+            return table
+        table |= further
+
+
+def room_slowly(machine):
+    """The number of point 25."""
+    reached = reached_slowly(machine)
+    words = {word for standing in reached for _, word in machine.rules[standing]}
+    ends = {word[k:] for word in words for k in range(len(word))}
+    return len(reached) ** 2 * (2 * len(ends) + 1)
+
+
+def is_twin_pair(machine, one, two):
+    """Whether two texts are twins, by point 22."""
+    return one != two and run_slowly(machine, one) == run_slowly(machine, two)
+
+
+def fewest_slowly(machine, longest):
+    """The fewest letters together of twins with at most so many letters each, or None."""
+    found = None
+    seen = {}
+    for text in texts_up_to(machine.alphabet, longest):
+        end = run_slowly(machine, text)
+        if end in seen:
+            letters = len(seen[end]) + len(text)
+            found = letters if found is None else min(found, letters)
+        seen.setdefault(end, text)
+    return found
+
+
+def coming_back(seed, many, **more):
+    """Machines whose texts come back, with at most so many of them."""
+    from outpressed.readbacks import comes_back
+    found = []
+    for machine in random_machines(seed, 60 * many, **more):
+        if comes_back(machine).holds and machine not in found:
+            found.append(machine)
+    return found[:many]
+
+
+def shared_total_slowly(count, share):
+    """The least number of bits of so many strings, none of them used more than share times."""
+    total, length = 0, 0
+    while count > 0:
+        here = min(count, share * 2 ** length)
+        total += here * length
+        count -= here
+        length += 1
+    return total
+
+
+def late_rules(letters, alphabet="ab"):
+    """A machine that holds back so many letters, and then writes the index of the oldest one as a bit."""
+    texts = texts_up_to(alphabet, letters)
+    rules = []
+    for text in texts:
+        row = []
+        for letter in alphabet:
+            word = str(alphabet.index(text[0])) if len(text) == letters else ""
+            row.append((texts.index((text + letter)[-letters:]), word))
+        rules.append(row)
+    return rules

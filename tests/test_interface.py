@@ -1,0 +1,93 @@
+"""The names, arguments and kinds of the section "The interface", for all that has landed, and points 2 to 4."""
+
+import importlib
+import inspect
+import unittest
+
+from outpressed import averages, blockmachines, blocks, cuts, holds, machines, pairs, readbacks, readers, sameness
+from outpressed import stretches, widths
+from tests.brute import EXAMPLE, are_tuples
+
+FUNCTIONS = {
+    "cuts": ["cut_of(alphabet, text)"],
+    "widths": ["width(options)", "number_bits(number, options)"],
+    "blocks": ["press(alphabet, text)", "pressed_length(size, count)"],
+    "stretches": ["fill(length, counts)"],
+    "machines": [],
+    "sameness": ["same_writing(one, two)", "least_machine(machine)"],
+    "blockmachines": ["block_machine(alphabet, length)"],
+    "averages": ["total_bits(machine, length)", "lightest(machine, length)", "heaviest(machine, length)",
+                 "weight_sum(machine, length)"],
+    "pairs": ["are_twins(machine, one, two)", "starting_pairs(machine)", "pair_moves(machine, pair)",
+              "walk_room(machine)"],
+    "readbacks": ["comes_back(machine)", "is_readback_paper(machine, heights, table)"],
+    "holds": ["hold(machine)", "is_hold_paper(machine, bits, levels)",
+              "is_open_paper(machine, begin, first, first_ring, second, second_ring)"],
+    "readers": ["read_back(machine, bits, last)"],
+}
+CLASSES = {
+    ("cuts", "Cut"): ["__init__(self, alphabet, rows, tail)", "__eq__(self, other)"],
+    ("machines", "Machine"): ["__init__(self, alphabet, rules)", "run(self, text, *, start=0)",
+                              "last_after(self, text)", "__call__(self, text)", "__eq__(self, other)",
+                              "__rshift__(self, other)"],
+    ("readbacks", "Readback"): [],
+    ("holds", "Hold"): [],
+    ("readers", "Reader"): ["__init__(self, machine)", "feed(self, bits)", "finish(self, last)"],
+}
+
+
+class InterfaceTest(unittest.TestCase):
+    def test_functions(self):
+        for name, signatures in FUNCTIONS.items():
+            module = importlib.import_module("outpressed." + name)
+            for told in signatures:
+                function = getattr(module, told.partition("(")[0])
+                self.assertEqual(told, function.__name__ + str(inspect.signature(function)))
+                self.assertEqual(module.__name__, function.__module__)
+
+    def test_classes(self):
+        for (name, kind), signatures in CLASSES.items():
+            module = importlib.import_module("outpressed." + name)
+            found = getattr(module, kind)
+            self.assertEqual(module.__name__, found.__module__)
+            for told in signatures:
+                method = vars(found)[told.partition("(")[0]]
+                self.assertEqual(told, method.__name__ + str(inspect.signature(method)))
+        self.assertIsInstance(vars(machines.Machine)["plain"], staticmethod)
+        self.assertEqual(["alphabet"], list(inspect.signature(machines.Machine.plain).parameters))
+        for name in ("certain", "seen"):
+            self.assertIsInstance(vars(readers.Reader)[name], property)
+
+    def test_fields(self):
+        machine = machines.Machine("ab", EXAMPLE)
+        for made, fields in ((cuts.cut_of("ab", "ab"), "alphabet rows tail pieces many text starts"),
+                             (machine, "alphabet rules standings reached"),
+                             (readbacks.comes_back(machine), "holds heights table one two"),
+                             (holds.hold(machine), "bits levels begin first first_ring second second_ring")):
+            for field in fields.split():
+                self.assertIn(field, vars(made))
+                self.assertTrue(are_tuples(getattr(made, field)))
+
+    def test_what_is_returned(self):
+        machine = machines.Machine("ab", EXAMPLE)
+        for value, kind in ((widths.width(3), int), (widths.number_bits(1, 3), str), (blocks.press("ab", "a"), str),
+                            (blocks.pressed_length(2, 3), int), (stretches.fill(3, [1]), int),
+                            (machine.run("a"), tuple), (machine("a"), str), (machine.last_after("a"), int),
+                            (machine == machine, bool), (machine == 0, bool), (machine >> machines.Machine.plain("01"),
+                                                                               machines.Machine),
+                            (sameness.same_writing(machine, machine), type(None)),
+                            (sameness.least_machine(machine), machines.Machine),
+                            (blockmachines.block_machine("a", 2), machines.Machine),
+                            (averages.total_bits(machine, 2), int), (averages.lightest(machine, 2), tuple),
+                            (averages.heaviest(machine, 2), tuple), (averages.weight_sum(machine, 2), tuple),
+                            (pairs.are_twins(machine, "a", "b"), bool), (pairs.starting_pairs(machine), tuple),
+                            (pairs.pair_moves(machine, [0, 0, "", ""]), tuple), (pairs.walk_room(machine), int),
+                            (readbacks.is_readback_paper(machine, [], []), bool),
+                            (holds.is_hold_paper(machine, 0, []), bool),
+                            (holds.is_open_paper(machine, "", "", "", "", ""), bool)):
+            self.assertIs(kind, type(value))
+            self.assertTrue(are_tuples(value))
+
+
+if __name__ == "__main__":
+    unittest.main()
