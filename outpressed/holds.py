@@ -68,18 +68,13 @@ def settled_levels(steps):
 
 def closed_hold(machine, walk, steps, levels):
     """The Hold with the greatest number of shared bits."""
-    bits = -1
-    begin, first, second = "", "", ""
-    start = None
-    for standing, letter, other, one, two, pair in partings(machine):
-        shared = worth(shared_length(one, two), pair, levels)
-        if shared > bits:
-            bits = shared
-            begin, first, second = walk.roads[standing], letter, other
-            start = pair
+    found = partings(machine)
+    shares = [worth(shared_length(one, two), pair, levels) for _, _, _, one, two, pair in found]
+    bits = max(shares)
+    standing, first, second, _, _, start = found[shares.index(bits)]
     further, behind = most_shared(steps, levels, start)
     entries = tuple([(pair, levels[pair]) for pair in sorted(list(levels))])
-    return Hold(bits, entries, begin, first + further, None, second + behind, None)
+    return Hold(bits, entries, walk.roads[standing], first + further, None, second + behind, None)
 
 
 def most_shared(steps, levels, pair):

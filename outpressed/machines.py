@@ -22,7 +22,6 @@ class Machine:
     @staticmethod
     def plain(alphabet):
         """The machine that writes each letter as its index."""
-        check_alphabet(alphabet)
         # A single letter would need no bit, and its texts would not come back.
         options = max(len(alphabet), 2)
         return Machine(alphabet, [[(0, number_bits(index, options)) for index in range(len(alphabet))]])

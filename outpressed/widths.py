@@ -12,4 +12,5 @@ def number_bits(number, options):
     if bits == 0:
         # The number 0 would have a digit, but one option needs no bit.
         return ""
-    return f"{number:b}".zfill(bits)
+    digits = f"{number:b}"
+    return digits.zfill(bits)

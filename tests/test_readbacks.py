@@ -93,6 +93,22 @@ class ComesBackTest(unittest.TestCase):
                                  [(4, "00"), (4, "0")], [(5, "1"), (0, "10")], [(0, "0001"), (0, "001")]])
         self.assertFalse(self.check(machine, 9))
 
+    def test_a_near_parting_and_a_far_one(self):
+        # Parting at once costs seven letters; two letters later it costs six, those two being read twice.
+        machine = Machine("abc", [[(2, "0"), (3, "0"), (1, "1")], [(0, "000"), (0, "0100"), (7, "1")],
+                                  [(4, "1"), (0, "0001"), (0, "0010")], [(6, "11"), (0, "00110"), (0, "01010")],
+                                  [(5, "1"), (0, "00011"), (0, "01011")], [(0, "1"), (0, "00100"), (0, "01100")],
+                                  [(0, "1"), (0, "001011"), (0, "010011")], [(0, "00"), (0, "00"), (0, "01")]])
+        self.assertFalse(self.check(machine, 6))
+        self.assertEqual(("cca", "ccb"), (comes_back(machine).one, comes_back(machine).two))
+        self.assertTrue(is_twin_pair(machine, "aaaa", "baa"))
+
+    def test_a_ring_that_costs_one_letter_more(self):
+        machine = Machine("abc", [[(1, ""), (0, "1"), (0, "1")], [(2, ""), (0, "10"), (0, "11")],
+                                  [(0, ""), (0, "100"), (0, "101")]])
+        self.assertFalse(self.check(machine, 4))
+        self.assertEqual(("b", "c"), (comes_back(machine).one, comes_back(machine).two))
+
     def test_a_ring_and_a_meeting(self):
         # The ring costs 2 * 3 + 1 letters, the meeting 2 * 3 + 2; without the ring it is the meeting.
         rules = [[(1, "0"), (0, "1")], [(2, "0"), (0, "11")], [(3, "0"), (0, "111")], [(3, ""), (3, "")]]
