@@ -1,5 +1,6 @@
 """What a machine writes for all texts of one length."""
 
+from outpressed.paths import cheapest_text
 from outpressed.ratios import lowest_terms
 
 
@@ -35,31 +36,15 @@ def weight_sum(machine, length):
 
 def lightest(machine, length):
     """The least number of bits for a text with this length, and the first such text."""
-    return extreme(machine, length, 1)
+    return cheapest_text(machine.alphabet, bit_costs(machine, 1), [True] * machine.standings, length)
 
 
 def heaviest(machine, length):
     """The greatest number of bits for a text with this length, and the first such text."""
-    bits, text = extreme(machine, length, -1)
-    return -bits, text
+    cost, text = cheapest_text(machine.alphabet, bit_costs(machine, -1), [True] * machine.standings, length)
+    return -cost, text
 
 
-def extreme(machine, length, sign):
-    """The least number of bits, each one counted as sign, and the first text with it."""
-    tables = [[0] * machine.standings]
-    for left in range(length):
-        later = tables[left]
-        tables.append([min([sign * len(word) + later[following] for following, word in row])
-                       for row in machine.rules])
-    letters = []
-    standing = 0
-    for left in range(length, 0, -1):
-        letter, standing = first_best(machine, standing, sign, tables[left][standing], tables[left - 1])
-        letters.append(letter)
-    return tables[length][0], "".join(letters)
-
-
-def first_best(machine, standing, sign, best, later):
-    """The first letter with which the best number is met, and the next standing."""
-    return [(letter, following) for letter, (following, word) in zip(machine.alphabet, machine.rules[standing])
-            if sign * len(word) + later[following] == best][0]
+def bit_costs(machine, sign):
+    """The steps of the machine, with the numbers of their bits, each one counted as sign."""
+    return [[(following, sign * len(word)) for following, word in row] for row in machine.rules]

@@ -2,7 +2,7 @@
 
 from outpressed.alphabets import check_alphabet, check_text, is_letter
 from outpressed.errors import BadRow, BadTail
-from outpressed.kinds import as_tuples, is_whole
+from outpressed.kinds import as_tuples, is_number_below
 
 
 class Cut:
@@ -12,7 +12,7 @@ class Cut:
         check_alphabet(alphabet)
         kept = as_tuples(rows)
         check_rows(alphabet, kept)
-        if not is_whole(tail) or tail < 0 or tail > len(kept):
+        if not is_number_below(tail, len(kept) + 1):
             raise BadTail(tail)
         self.alphabet = alphabet
         self.rows = kept
@@ -32,7 +32,7 @@ def check_rows(alphabet, rows):
     earlier = {}
     for index, row in enumerate(rows):
         parent, letter = row
-        if not is_whole(parent) or parent < 0 or parent > index:
+        if not is_number_below(parent, index + 1):
             raise BadRow(index)
         if not is_letter(alphabet, letter) or row in earlier:
             raise BadRow(index)

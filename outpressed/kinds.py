@@ -6,6 +6,11 @@ def is_whole(value):
     return isinstance(value, int) and not isinstance(value, bool)
 
 
+def is_number_below(value, many):
+    """Whether the value is a whole number from 0 on, and less than so many."""
+    return is_whole(value) and 0 <= value < many
+
+
 def is_bits(value):
     """Whether the value is a string of bits."""
     return isinstance(value, str) and value.strip("01") == ""

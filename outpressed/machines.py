@@ -2,7 +2,7 @@
 
 from outpressed.alphabets import check_alphabet, check_same_alphabet, check_text
 from outpressed.errors import BadRule, BadStanding
-from outpressed.kinds import as_tuples, is_bits, is_whole
+from outpressed.kinds import as_tuples, is_bits, is_number_below
 from outpressed.tables import reached_in
 from outpressed.widths import number_bits
 
@@ -43,22 +43,26 @@ class Machine:
 
     def __rshift__(self, other):
         check_same_alphabet("01", other.alphabet)
-        return Machine(self.alphabet, rules_in_a_row(self.rules, other.rules))
+        _, rules = pairs_in_a_row(self.rules, other.rules)
+        return Machine(self.alphabet, rules)
 
 
 def check_rules(alphabet, rules):
     """Raise BadStanding or BadRule for the first standing or rule that is not right."""
-    if len(rules) == 0:
-        raise BadStanding(0)
-    for standing, row in enumerate(rules):
-        if len(row) != len(alphabet):
-            raise BadStanding(standing)
+    check_row_lengths(alphabet, rules)
     for standing, row in enumerate(rules):
         for letter, (following, word) in zip(alphabet, row):
-            if not is_whole(following) or following < 0 or following >= len(rules):
+            if not is_number_below(following, len(rules)) or not is_bits(word):
                 raise BadRule(standing, letter)
-            if not is_bits(word):
-                raise BadRule(standing, letter)
+
+
+def check_row_lengths(alphabet, rows):
+    """Raise BadStanding if there are no rows, or for the first one without one item for each letter."""
+    if len(rows) == 0:
+        raise BadStanding(0)
+    for standing, row in enumerate(rows):
+        if len(row) != len(alphabet):
+            raise BadStanding(standing)
 
 
 def nexts_of(rules):
@@ -77,8 +81,8 @@ def written_by(rules, alphabet, text, start):
     return "".join(words), standing
 
 
-def rules_in_a_row(first, second):
-    """The rules of two machines, of which the second reads what the first writes."""
+def pairs_in_a_row(first, second):
+    """The standings of two machines of which the second reads what the first writes, and their rules."""
     pairs = [(0, 0)]
     numbers = {(0, 0): 0}
     rows = []
@@ -93,4 +97,4 @@ def rules_in_a_row(first, second):
                 pairs.append(pair)
             row.append((numbers[pair], written))
         rows.append(row)
-    return rows
+    return pairs, rows

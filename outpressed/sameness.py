@@ -2,7 +2,7 @@
 
 from outpressed.alphabets import check_same_alphabet
 from outpressed.machines import Machine, nexts_of
-from outpressed.tables import first_of_classes, stable_classes
+from outpressed.tables import fewest_standings
 
 
 def leader_of(leaders, standing):
@@ -53,24 +53,6 @@ def same_writing(one, two):
 
 def least_machine(machine):
     """The machine with the fewest standings that writes the same."""
-    numbers = {standing: number for number, standing in enumerate(machine.reached)}
-    rules = [machine.rules[standing] for standing in machine.reached]
-    nexts = [[numbers[following] for following in row] for row in nexts_of(rules)]
-    colors = colors_of([tuple([rule[1] for rule in row]) for row in rules])
-    classes = stable_classes(colors, nexts)
-    order = first_of_classes(classes, nexts)
-    places = {classes[standing]: place for place, standing in enumerate(order)}
-    kept = []
-    for standing in order:
-        words = [rule[1] for rule in rules[standing]]
-        followers = [places[classes[following]] for following in nexts[standing]]
-        kept.append(list(zip(followers, words)))
-    return Machine(machine.alphabet, kept)
-
-
-def colors_of(kinds):
-    """A number for each item, from 0 on; equal items have the same one."""
-    numbers = {}
-    for kind in kinds:
-        numbers.setdefault(kind, len(numbers))
-    return [numbers[kind] for kind in kinds]
+    words = [tuple([word for _, word in row]) for row in machine.rules]
+    order, nexts = fewest_standings(words, nexts_of(machine.rules))
+    return Machine(machine.alphabet, [list(zip(row, words[standing])) for standing, row in zip(order, nexts)])

@@ -4,6 +4,7 @@ import random
 from itertools import product
 
 from outpressed.machines import Machine
+from outpressed.rounds import Round
 
 
 def texts_of(alphabet, length):
@@ -182,6 +183,25 @@ def shared_total_slowly(count, share):
         count -= here
         length += 1
     return total
+
+
+def random_text(source, alphabet, length):
+    """A text with this length."""
+    return "".join(source.choice(alphabet) for _ in range(length))
+
+
+def random_round(source, alphabet, longest):
+    """An endless text with at most so many letters in its head and in its ring."""
+    return Round(alphabet, random_text(source, alphabet, source.randint(0, longest)),
+                 random_text(source, alphabet, source.randint(1, longest)))
+
+
+def least_heaviest(reached, count):
+    """The least number m for which reached * (2 ** (m + 1) - 1) is at least the count."""
+    bits = 0
+    while reached * (2 ** (bits + 1) - 1) < count:
+        bits += 1
+    return bits
 
 
 def late_rules(letters, alphabet="ab"):

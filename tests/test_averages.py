@@ -1,4 +1,4 @@
-"""Points 20, 21 and, as far as it speaks of them, 36."""
+"""Points 20 and 21."""
 
 import unittest
 from fractions import Fraction
@@ -6,7 +6,7 @@ from fractions import Fraction
 from outpressed.averages import heaviest, lightest, total_bits, weight_sum
 from outpressed.machines import Machine
 from outpressed.ratios import lowest_terms
-from tests.brute import EXAMPLE, coming_back, random_machines, run_slowly, shared_total_slowly, texts_of
+from tests.brute import EXAMPLE, random_machines, run_slowly, texts_of
 
 
 class AveragesTest(unittest.TestCase):
@@ -55,19 +55,6 @@ class AveragesTest(unittest.TestCase):
             first = function(machine, 5)
             function(Machine.plain("abc"), 3)
             self.assertEqual(first, function(length=5, machine=machine))
-
-    def test_what_is_never_pressed(self):
-        for machine in coming_back(36, 40) + [Machine("ab", EXAMPLE), Machine.plain("abc")]:
-            reached, size = len(machine.reached), len(machine.alphabet)
-            for length in (0, 1, 2, 5, 17):
-                self.assertGreaterEqual(total_bits(machine, length), shared_total_slowly(size ** length, reached))
-                most, least = heaviest(machine, length)[0], lightest(machine, length)[0]
-                needed = 0
-                while reached * (2 ** (needed + 1) - 1) < size ** length:
-                    needed += 1
-                self.assertGreaterEqual(most, needed)
-                top, bottom = weight_sum(machine, length)
-                self.assertLessEqual(Fraction(top, bottom), reached * (most - least + 1))
 
 
 class FractionsTest(unittest.TestCase):

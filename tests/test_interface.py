@@ -4,8 +4,8 @@ import importlib
 import inspect
 import unittest
 
-from outpressed import averages, blockmachines, blocks, cuts, holds, machines, pairs, readbacks, readers, sameness
-from outpressed import stretches, widths
+from outpressed import averages, blockmachines, blocks, cuts, duels, excesses, floors, holds, instants, machines
+from outpressed import pairs, readbacks, readers, rivals, roundruns, rounds, sameness, stretches, widths
 from tests.brute import EXAMPLE, are_tuples
 
 FUNCTIONS = {
@@ -24,6 +24,13 @@ FUNCTIONS = {
     "holds": ["hold(machine)", "is_hold_paper(machine, bits, levels)",
               "is_open_paper(machine, begin, first, first_ring, second, second_ring)"],
     "readers": ["read_back(machine, bits, last)"],
+    "floors": ["shared_total(count, share)", "floor_bits(standings, count)"],
+    "excesses": ["excess(size, standings, count)", "told_excess(size, standings, count)"],
+    "duels": ["duel(machine, text)"],
+    "instants": ["is_instant(machine)"],
+    "rivals": ["best_one(alphabet, text)"],
+    "rounds": ["word_count(endless, length)", "pieces_bound(endless, length)"],
+    "roundruns": ["settle(machine, endless)", "bits_on(machine, endless, length)", "rate_on(machine, endless)"],
 }
 CLASSES = {
     ("cuts", "Cut"): ["__init__(self, alphabet, rows, tail)", "__eq__(self, other)"],
@@ -33,6 +40,9 @@ CLASSES = {
     ("readbacks", "Readback"): [],
     ("holds", "Hold"): [],
     ("readers", "Reader"): ["__init__(self, machine)", "feed(self, bits)", "finish(self, last)"],
+    ("duels", "Duel"): [],
+    ("rounds", "Round"): ["__init__(self, alphabet, head, ring)", "letter_of(self, index)", "beginning(self, length)",
+                          "__eq__(self, other)"],
 }
 
 
@@ -63,13 +73,17 @@ class InterfaceTest(unittest.TestCase):
         for made, fields in ((cuts.cut_of("ab", "ab"), "alphabet rows tail pieces many text starts"),
                              (machine, "alphabet rules standings reached"),
                              (readbacks.comes_back(machine), "holds heights table one two"),
-                             (holds.hold(machine), "bits levels begin first first_ring second second_ring")):
+                             (holds.hold(machine), "bits levels begin first first_ring second second_ring"),
+                             (duels.duel(machine, "ab"), "length pieces standings machine_bits presser_bits floor told"
+                                                         " lead"),
+                             (rounds.Round("ab", "a", "b"), "alphabet head ring variety")):
             for field in fields.split():
                 self.assertIn(field, vars(made))
                 self.assertTrue(are_tuples(getattr(made, field)))
 
     def test_what_is_returned(self):
         machine = machines.Machine("ab", EXAMPLE)
+        endless = rounds.Round("ab", "a", "b")
         for value, kind in ((widths.width(3), int), (widths.number_bits(1, 3), str), (blocks.press("ab", "a"), str),
                             (blocks.pressed_length(2, 3), int), (stretches.fill(3, [1]), int),
                             (machine.run("a"), tuple), (machine("a"), str), (machine.last_after("a"), int),
@@ -84,7 +98,15 @@ class InterfaceTest(unittest.TestCase):
                             (pairs.pair_moves(machine, [0, 0, "", ""]), tuple), (pairs.walk_room(machine), int),
                             (readbacks.is_readback_paper(machine, [], []), bool),
                             (holds.is_hold_paper(machine, 0, []), bool),
-                            (holds.is_open_paper(machine, "", "", "", "", ""), bool)):
+                            (holds.is_open_paper(machine, "", "", "", "", ""), bool),
+                            (floors.shared_total(3, 2), int), (floors.floor_bits(3, 2), int),
+                            (excesses.excess(2, 1, 3), int), (excesses.told_excess(2, 1, 3), int),
+                            (duels.duel(machine, "ab"), duels.Duel), (instants.is_instant(machine), bool),
+                            (rivals.best_one("ab", "a"), machines.Machine), (endless.letter_of(3), str),
+                            (endless.beginning(3), str), (endless == endless, bool), (endless == 0, bool),
+                            (rounds.word_count(endless, 3), int), (rounds.pieces_bound(endless, 3), int),
+                            (roundruns.settle(machine, endless), tuple), (roundruns.bits_on(machine, endless, 3), int),
+                            (roundruns.rate_on(machine, endless), tuple)):
             self.assertIs(kind, type(value))
             self.assertTrue(are_tuples(value))
 
