@@ -3,6 +3,7 @@
 import random
 from itertools import product
 
+from outpressed.lots import Lot
 from outpressed.machines import Machine
 from outpressed.rounds import Round
 
@@ -194,6 +195,34 @@ def random_round(source, alphabet, longest):
     """An endless text with at most so many letters in its head and in its ring."""
     return Round(alphabet, random_text(source, alphabet, source.randint(0, longest)),
                  random_text(source, alphabet, source.randint(1, longest)))
+
+
+def random_rows(source, size, standings):
+    """Rows of a lot."""
+    return [(source.random() < 0.4, [source.randrange(standings) for _ in range(size)]) for _ in range(standings)]
+
+
+def random_lots(seed, many, *, alphabets=("a", "ab", "abc"), standings=4):
+    """Lots of all sorts, the same ones at each run."""
+    source = random.Random(seed)
+    lots = []
+    for _ in range(many):
+        alphabet = source.choice(alphabets)
+        lots.append(Lot(alphabet, random_rows(source, len(alphabet), source.randint(1, standings))))
+    return lots
+
+
+def place_in_rows(alphabet, rows, text):
+    """The last standing of a lot, by point 46."""
+    standing = 0
+    for letter in text:
+        standing = rows[standing][1][alphabet.index(letter)]
+    return standing
+
+
+def is_in_rows(alphabet, rows, text):
+    """Whether the text is in the lot, by point 46."""
+    return rows[place_in_rows(alphabet, rows, text)][0]
 
 
 def least_heaviest(reached, count):

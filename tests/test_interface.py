@@ -4,8 +4,9 @@ import importlib
 import inspect
 import unittest
 
-from outpressed import averages, blockmachines, blocks, cuts, duels, excesses, floors, holds, instants, machines
-from outpressed import pairs, readbacks, readers, rivals, roundruns, rounds, sameness, stretches, widths
+from outpressed import averages, blockmachines, blocks, cuts, duels, excesses, floors, holds, instants, lotcounts, lots
+from outpressed import lotwriting, machines, overtaking, pairs, racing, rates, readbacks, readers, rivals, roundruns
+from outpressed import rounds, sameness, stretches, widths
 from tests.brute import EXAMPLE, are_tuples
 
 FUNCTIONS = {
@@ -31,6 +32,15 @@ FUNCTIONS = {
     "rivals": ["best_one(alphabet, text)"],
     "rounds": ["word_count(endless, length)", "pieces_bound(endless, length)"],
     "roundruns": ["settle(machine, endless)", "bits_on(machine, endless, length)", "rate_on(machine, endless)"],
+    "rates": ["least_rate(machine)", "greatest_rate(machine)", "is_rate_paper(machine, side, rate, levels)"],
+    "overtaking": ["overtaken_from(size, variety, standings)"],
+    "racing": ["ahead_from(machine, endless)"],
+    "lots": ["lot_of(alphabet, texts)", "lot_containing(alphabet, word)",
+             "lot_counting(alphabet, letter, rest, modulus)"],
+    "lotcounts": ["lot_count(lot, length)", "rank_in(lot, text)", "text_at(lot, length, rank)",
+                  "lot_bits(machine, lot, length)", "lot_lightest(machine, lot, length)",
+                  "lot_heaviest(machine, lot, length)"],
+    "lotwriting": ["texts_writing(machine, bit_lot)", "written_lot(machine, lot)"],
 }
 CLASSES = {
     ("cuts", "Cut"): ["__init__(self, alphabet, rows, tail)", "__eq__(self, other)"],
@@ -43,6 +53,9 @@ CLASSES = {
     ("duels", "Duel"): [],
     ("rounds", "Round"): ["__init__(self, alphabet, head, ring)", "letter_of(self, index)", "beginning(self, length)",
                           "__eq__(self, other)"],
+    ("rates", "Rate"): [],
+    ("lots", "Lot"): ["__init__(self, alphabet, rows)", "__eq__(self, other)", "__contains__(self, text)",
+                      "__invert__(self)", "__and__(self, other)", "__or__(self, other)", "__sub__(self, other)"],
 }
 
 
@@ -76,7 +89,9 @@ class InterfaceTest(unittest.TestCase):
                              (holds.hold(machine), "bits levels begin first first_ring second second_ring"),
                              (duels.duel(machine, "ab"), "length pieces standings machine_bits presser_bits floor told"
                                                          " lead"),
-                             (rounds.Round("ab", "a", "b"), "alphabet head ring variety")):
+                             (rounds.Round("ab", "a", "b"), "alphabet head ring variety"),
+                             (rates.least_rate(machine), "rate standing loop levels"),
+                             (lots.lot_of("ab", ["a"]), "alphabet rows")):
             for field in fields.split():
                 self.assertIn(field, vars(made))
                 self.assertTrue(are_tuples(getattr(made, field)))
@@ -84,6 +99,7 @@ class InterfaceTest(unittest.TestCase):
     def test_what_is_returned(self):
         machine = machines.Machine("ab", EXAMPLE)
         endless = rounds.Round("ab", "a", "b")
+        lot = lots.lot_of("ab", ["a", "b"])
         for value, kind in ((widths.width(3), int), (widths.number_bits(1, 3), str), (blocks.press("ab", "a"), str),
                             (blocks.pressed_length(2, 3), int), (stretches.fill(3, [1]), int),
                             (machine.run("a"), tuple), (machine("a"), str), (machine.last_after("a"), int),
@@ -106,7 +122,19 @@ class InterfaceTest(unittest.TestCase):
                             (endless.beginning(3), str), (endless == endless, bool), (endless == 0, bool),
                             (rounds.word_count(endless, 3), int), (rounds.pieces_bound(endless, 3), int),
                             (roundruns.settle(machine, endless), tuple), (roundruns.bits_on(machine, endless, 3), int),
-                            (roundruns.rate_on(machine, endless), tuple)):
+                            (roundruns.rate_on(machine, endless), tuple), (rates.least_rate(machine), rates.Rate),
+                            (rates.greatest_rate(machine).rate, tuple),
+                            (rates.is_rate_paper(machine, "least", [0, 1], []), bool),
+                            (overtaking.overtaken_from(1, 1, 1), int), (racing.ahead_from(machine, endless), int),
+                            (~lot, lots.Lot), (lot & lot, lots.Lot), (lot | lot, lots.Lot), (lot - lot, lots.Lot),
+                            (lot == lot, bool), (lot == 0, bool), ("a" in lot, bool),
+                            (lots.lot_containing("ab", "a"), lots.Lot), (lots.lot_counting("ab", "a", 0, 2), lots.Lot),
+                            (lotcounts.lot_count(lot, 1), int), (lotcounts.rank_in(lot, "a"), int),
+                            (lotcounts.text_at(lot, 1, 0), str), (lotcounts.lot_bits(machine, lot, 1), int),
+                            (lotcounts.lot_lightest(machine, lot, 1), tuple),
+                            (lotcounts.lot_heaviest(machine, lot, 2), type(None)),
+                            (lotwriting.texts_writing(machine, lots.lot_of("01", ["1"])), lots.Lot),
+                            (lotwriting.written_lot(machine, lot), lots.Lot)):
             self.assertIs(kind, type(value))
             self.assertTrue(are_tuples(value))
 

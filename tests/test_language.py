@@ -31,6 +31,8 @@ NODES = (ast.Module, ast.ImportFrom, ast.alias, ast.FunctionDef, ast.ClassDef, a
          ast.Slice, ast.Call, ast.keyword, ast.Tuple, ast.List, ast.Dict, ast.ListComp, ast.DictComp, ast.SetComp,
          ast.comprehension, ast.BinOp, ast.BoolOp, ast.UnaryOp, ast.Compare, ast.IfExp, ast.JoinedStr,
          ast.FormattedValue, ast.expr_context, ast.operator, ast.boolop, ast.unaryop, ast.cmpop)
+OPERATORS = DOUBLE - {"__init__", "__call__", "__iter__"}
+LIBRARY_WORDS = {word for words in LIBRARY.values() for word in words}
 ON_THE_SPOT = {"zip", "enumerate", "reversed", "range", "items", "keys", "values"}
 TAKERS = {"list", "tuple", "dict", "sorted", "sum", "any", "all", "enumerate", "zip", "min", "max"}
 CHANGING = {"append", "clear", "extend", "insert", "pop", "remove", "reverse", "setdefault", "update"}
@@ -244,6 +246,67 @@ class LanguageTest(unittest.TestCase):
                     changed = inner.value
                 if changed is not None:
                     self.assertNotIn(ast.unparse(changed), over, self.at(name, inner))
+
+    def test_operators_change_only_what_they_created(self):
+        functions, todo = {}, []
+        for name, node in self.nodes:
+            if isinstance(node, ast.FunctionDef):
+                owner = node.parent.name if isinstance(node.parent, ast.ClassDef) else None
+                word = owner if node.name == "__init__" else node.name
+                functions.setdefault(word, []).append((name, node))
+                if node.name in OPERATORS or [one for one in node.decorator_list if one.id == "property"]:
+                    todo.append((name, node))
+        seen = []
+        while todo:
+            name, node = todo.pop()
+            if node in seen:
+                continue
+            seen.append(node)
+            self.check_changes(name, node)
+            for call in ast.walk(node):
+                if isinstance(call, ast.Call):
+                    word = called(call)
+                    # A parameter or an attribute is not called, and a method of a builtin value is none of our own.
+                    self.assertIn(word, set(functions) | BUILTINS | VALUE_METHODS | LIBRARY_WORDS, self.at(name, call))
+                    todo += functions.get(word, [])
+        self.assertGreater(len(seen), 25)
+
+    def check_changes(self, name, function):
+        """All changes go to a list or dict that a local variable is only ever assigned anew."""
+        given = {}
+        for node in ast.walk(function):
+            if isinstance(node, ast.Assign):
+                for target in node.targets:
+                    for part in ast.walk(target):
+                        if isinstance(part, ast.Name) and isinstance(part.ctx, ast.Store):
+                            given.setdefault(part.id, []).append(node.value if part is target else None)
+        for node in ast.walk(function):
+            changed = None
+            if isinstance(node, ast.Call) and isinstance(node.func, ast.Attribute) and node.func.attr in CHANGING:
+                changed = node.func.value
+            elif isinstance(node, ast.Call) and called(node) in ("heappush", "heappop"):
+                changed = node.args[0]
+            elif isinstance(node, ast.Subscript) and not isinstance(node.ctx, ast.Load):
+                changed = node.value
+            elif isinstance(node, ast.Attribute) and not isinstance(node.ctx, ast.Load):
+                self.assertEqual(("__init__", "self"), (function.name, node.value.id), self.at(name, node))
+            elif isinstance(node, ast.AugAssign):
+                self.assertTrue(isinstance(node.target, ast.Name), self.at(name, node))
+                simple = [isinstance(value, ast.Constant) for value in given[node.target.id]]
+                self.assertTrue(isinstance(node.value, ast.Constant) or all(simple), self.at(name, node))
+            if changed is None:
+                continue
+            if isinstance(changed, ast.Call):
+                self.assertEqual("setdefault", called(changed))
+                changed = changed.func.value
+            if isinstance(changed, ast.Subscript):
+                changed = changed.value
+            self.assertIsInstance(changed, ast.Name, self.at(name, node))
+            for value in given.get(changed.id, [None]):
+                is_new = isinstance(value, (ast.List, ast.Dict, ast.ListComp, ast.DictComp)) or (
+                    isinstance(value, ast.Call) and called(value) in ("list", "dict", "sorted")) or (
+                    isinstance(value, ast.BinOp) and isinstance(value.left, ast.List))
+                self.assertTrue(is_new, self.at(name, node))
 
     def test_only_own_errors_are_raised_and_caught(self):
         own = {node.name for node in self.trees["errors.py"].body if isinstance(node, ast.ClassDef)}

@@ -52,6 +52,14 @@ class BestOneTest(unittest.TestCase):
         counts = [1, 1, 2, 4, 8, 16]
         self.check("abcdef", "".join(letter * count for letter, count in zip("abcdef", counts)), fewest_bits(counts))
 
+    def test_letters_that_are_as_frequent_as_one_another(self):
+        for size, bits in ((2, 2), (3, 5), (4, 8), (5, 12), (6, 16)):
+            self.assertEqual(bits * 5, fewest_bits([5] * size))
+            self.check("abcdef"[:size], "abcdef"[:size] * 5, bits * 5)
+        for counts in ([3, 4, 5, 6, 7, 8], [1, 1, 1, 1, 4, 4], [5, 5, 5, 9, 9], [2, 3, 3, 4]):
+            letters = "abcdef"[:len(counts)]
+            self.check(letters, "".join(letter * count for letter, count in zip(letters, counts)), fewest_bits(counts))
+
     def test_letters_that_the_text_does_not_have(self):
         self.check("ab", "aaaa", 4)
         self.check("ab", "bbb", 3)
