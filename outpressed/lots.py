@@ -22,11 +22,12 @@ class Lot:
         return isinstance(other, Lot) and self.alphabet == other.alphabet and self.rows == other.rows
 
     def __contains__(self, text):
-        if text.lstrip(self.alphabet) != "":
-            return False
+        places = {letter: place for place, letter in enumerate(self.alphabet)}
         standing = 0
         for letter in text:
-            standing = self.rows[standing][1][self.alphabet.index(letter)]
+            if letter not in places:
+                return False
+            standing = self.rows[standing][1][places[letter]]
         return self.rows[standing][0]
 
     def __invert__(self):

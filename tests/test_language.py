@@ -66,6 +66,8 @@ class LanguageTest(unittest.TestCase):
                 child.parent = node
         cls.methods = {entry.name for name, node in cls.nodes if isinstance(node, ast.ClassDef)
                        for entry in node.body if isinstance(entry, ast.FunctionDef)}
+        cls.assigned = {node.attr for name, node in cls.nodes
+                        if isinstance(node, ast.Attribute) and isinstance(node.ctx, ast.Store)}
 
     def at(self, name, node):
         return f"{name}:{getattr(node, 'lineno', 0)}"
@@ -265,11 +267,22 @@ class LanguageTest(unittest.TestCase):
             self.check_changes(name, node)
             for call in ast.walk(node):
                 if isinstance(call, ast.Call):
-                    word = called(call)
-                    # A parameter or an attribute is not called, and a method of a builtin value is none of our own.
-                    self.assertIn(word, set(functions) | BUILTINS | VALUE_METHODS | LIBRARY_WORDS, self.at(name, call))
-                    todo += functions.get(word, [])
+                    self.check_callee(name, node, call, functions)
+                    todo += functions.get(called(call), [])
         self.assertGreater(len(seen), 25)
+
+    def check_callee(self, name, function, call, functions):
+        """What is called is neither passed nor held: no parameter, no local variable and no attribute."""
+        word = called(call)
+        self.assertIn(word, set(functions) | BUILTINS | VALUE_METHODS | LIBRARY_WORDS, self.at(name, call))
+        if isinstance(call.func, ast.Name):
+            own = {part.arg for part in ast.walk(function) if isinstance(part, ast.arg)}
+            own |= {part.id for part in ast.walk(function)
+                    if isinstance(part, ast.Name) and isinstance(part.ctx, ast.Store)}
+            self.assertNotIn(word, own, self.at(name, call))
+        else:
+            # Where a class holds something by this name, a call of it might be a call of that.
+            self.assertNotIn(word, self.assigned, self.at(name, call))
 
     def check_changes(self, name, function):
         """All changes go to a list or dict that a local variable is only ever assigned anew."""
@@ -318,12 +331,10 @@ class LanguageTest(unittest.TestCase):
                 self.assertLessEqual({kind.id for kind in kinds}, own, self.at(name, node))
 
     def test_attributes_are_assigned_and_are_no_methods(self):
-        assigned = {node.attr for name, node in self.nodes
-                    if isinstance(node, ast.Attribute) and isinstance(node.ctx, ast.Store)}
-        self.assertEqual(set(), assigned & (self.methods | VALUE_METHODS - {"count", "index", "find", "copy"}))
+        self.assertEqual(set(), self.assigned & (self.methods | VALUE_METHODS - {"count", "index", "find", "copy"}))
         for name, node in self.nodes:
             if isinstance(node, ast.Attribute) and isinstance(node.ctx, ast.Load):
-                self.assertIn(node.attr, assigned | self.methods | VALUE_METHODS, self.at(name, node))
+                self.assertIn(node.attr, self.assigned | self.methods | VALUE_METHODS, self.at(name, node))
 
 
 if __name__ == "__main__":
