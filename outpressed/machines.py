@@ -4,7 +4,7 @@ from outpressed.alphabets import check_alphabet, check_same_alphabet, check_text
 from outpressed.errors import BadRule, BadStanding
 from outpressed.kinds import as_tuples, is_bits, is_number_below
 from outpressed.tables import reached_in
-from outpressed.widths import number_bits
+from outpressed.widths import index_words
 
 
 class Machine:
@@ -22,9 +22,7 @@ class Machine:
     @staticmethod
     def plain(alphabet):
         """The machine that writes each letter as its index."""
-        # A single letter would need no bit, and its texts would not come back.
-        options = max(len(alphabet), 2)
-        return Machine(alphabet, [[(0, number_bits(index, options)) for index in range(len(alphabet))]])
+        return Machine(alphabet, [[(0, word) for word in index_words(len(alphabet))]])
 
     def run(self, text, *, start=0):
         """The bits that are written for the text, and the last standing."""

@@ -17,32 +17,49 @@ class Rate:
 
 def least_rate(machine):
     """The Rate with the least rate of all loops."""
-    top, bottom, standing, loop, levels = least_mean(machine, 1)
+    top, bottom, standing, loop, levels = signed_rate(machine, 1)
     return Rate((top, bottom), standing, loop, levels)
 
 
 def greatest_rate(machine):
     """The Rate with the greatest rate of all loops."""
-    top, bottom, standing, loop, levels = least_mean(machine, -1)
+    top, bottom, standing, loop, levels = signed_rate(machine, -1)
     return Rate((-top, bottom), standing, loop, tuple([-level for level in levels]))
 
 
-def least_mean(machine, sign):
-    """The least rate, each bit counted as sign, as top and bottom; its standing, its loop, and levels."""
+def signed_rate(machine, sign):
+    """The least rate, each bit counted as sign, as least_mean tells it, but with a level for each standing."""
     # In this order a step mostly leads to a later standing, so that few rounds settle the levels.
-    steps = {standing: [(following, letter, sign * len(word)) for letter, (following, word)
-                        in zip(machine.alphabet, machine.rules[standing])]
-             for standing in reached_in(nexts_of(machine.rules))}
-    # A rate above all others first: below it there is a ring. Each ring that is
-    # found has a lesser rate, until no ring is below the last one.
-    top = 1 + max([cost for row in steps.values() for _, _, cost in row])
+    order = reached_in(nexts_of(machine.rules))
+    top, bottom, standing, loop, levels = least_mean(cost_steps(machine, order, sign))
+    return top, bottom, standing, loop, tuple([levels.get(place, 0) for place in range(machine.standings)])
+
+
+def cost_steps(machine, standings, sign):
+    """The steps (next standing, letter, bits counted as sign) between these standings, by the standing."""
+    inside = {standing: True for standing in standings}
+    return {standing: [(following, letter, sign * len(word)) for letter, (following, word)
+                       in zip(machine.alphabet, machine.rules[standing]) if following in inside]
+            for standing in standings}
+
+
+def least_mean(steps):
+    """The least cost for a letter of all rings of steps, or None if there is no ring.
+
+    It is told as top and bottom, a standing, a loop from it with this mean, and levels.
+    """
+    # A mean above all others first: below it there is any ring. Each ring that
+    # is found has a lesser mean, until no ring is below the last one.
+    top = 1 + max([cost for row in steps.values() for _, _, cost in row], default=0)
     bottom = 1
     found = None
     while True:
         levels, ring = levels_or_ring(steps, top, bottom)
         if ring is None:
+            if found is None:
+                return None
             standing, loop = found
-            return top, bottom, standing, loop, tuple([levels.get(place, 0) for place in range(machine.standings)])
+            return top, bottom, standing, loop, levels
         cost, standing, loop = ring
         found = (standing, loop)
         top, bottom = lowest_terms(cost, len(loop))

@@ -27,10 +27,15 @@ def checked_walk(machine):
     return Walk(machine)
 
 
+def twins_of(machine, walk):
+    """Twins with the fewest letters together, the lesser text first, or None."""
+    return fewest_twins(machine, walk, list(range(machine.standings)))
+
+
 def sure_walk(machine):
     """The Walk of a machine whose texts come back; DoesNotComeBack otherwise."""
     walk = checked_walk(machine)
-    twins = fewest_twins(machine, walk)
+    twins = twins_of(machine, walk)
     if twins is not None:
         raise DoesNotComeBack(twins[0], twins[1])
     return walk
@@ -39,7 +44,7 @@ def sure_walk(machine):
 def comes_back(machine):
     """The Readback that tells whether the texts of the machine come back."""
     walk = checked_walk(machine)
-    twins = fewest_twins(machine, walk)
+    twins = twins_of(machine, walk)
     if twins is not None:
         return Readback(False, (), (), twins[0], twins[1])
     return Readback(True, silent_heights(machine), tuple(sorted(list(walk.costs))), None, None)

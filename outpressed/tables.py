@@ -21,6 +21,21 @@ def reached_in(nexts):
     return first_of_classes(list(range(len(nexts))), nexts)
 
 
+def roads_in(alphabet, nexts):
+    """The least text that leads to each standing, for all standings that some text leads to."""
+    roads = {0: ""}
+    order = [0]
+    at = 0
+    while at < len(order):
+        standing = order[at]
+        for letter, following in zip(alphabet, nexts[standing]):
+            if following not in roads:
+                roads[following] = roads[standing] + letter
+                order.append(following)
+        at += 1
+    return roads
+
+
 def side_by_side(one, two):
     """All pairs of standings of two tables that some text leads to, by the least texts, and their table."""
     pairs = [(0, 0)]

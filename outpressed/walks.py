@@ -2,7 +2,9 @@
 
 from heapq import heappop, heappush
 
-from outpressed.pairs import is_meeting, pair_moves, partings
+from outpressed.machines import nexts_of
+from outpressed.pairs import pair_moves, partings
+from outpressed.tables import roads_in
 
 
 class Walk:
@@ -13,7 +15,7 @@ class Walk:
     """
 
     def __init__(self, machine):
-        self.roads = least_roads(machine)
+        self.roads = roads_in(machine.alphabet, nexts_of(machine.rules))
         self.costs = {}
         self.origins = {}
         self.explore(machine)
@@ -58,42 +60,32 @@ def by_side(side, letter):
     return "", letter
 
 
-def least_roads(machine):
-    """The least text that leads to each reached standing."""
-    roads = {0: ""}
-    order = [0]
-    at = 0
-    while at < len(order):
-        standing = order[at]
-        for letter, (following, _) in zip(machine.alphabet, machine.rules[standing]):
-            if following not in roads:
-                roads[following] = roads[standing] + letter
-                order.append(following)
-        at += 1
-    return roads
-
-
 def silent_steps(machine, standing):
     """The letters for which nothing is written, and the standings behind them."""
     return [(letter, following) for letter, (following, word) in zip(machine.alphabet, machine.rules[standing])
             if word == ""]
 
 
-def shortest_ring(machine, standing):
-    """A shortest silent text that leads from the standing to itself, or None."""
+def shortest_return(machine, standing, groups):
+    """A shortest silent text that leads from the standing to one of its group, or None."""
     order = [(standing, "")]
     found = {}
     at = 0
     while at < len(order):
         place, text = order[at]
         for letter, following in silent_steps(machine, place):
-            if following == standing:
+            if is_one_group(groups, standing, following):
                 return text + letter
             if following not in found:
                 found[following] = True
                 order.append((following, text + letter))
         at += 1
     return None
+
+
+def is_one_group(groups, one, two):
+    """Whether two standings are in the same group; one without a group is in none."""
+    return groups[one] is not None and groups[one] == groups[two]
 
 
 def silent_heights(machine):
@@ -106,18 +98,22 @@ def silent_heights(machine):
     return tuple(heights)
 
 
-def fewest_twins(machine, walk):
-    """Twins with the fewest letters together, the lesser text first, or None."""
+def fewest_twins(machine, walk, groups):
+    """Two texts with the same bits that lead to one group, with the fewest letters together, or None.
+
+    The lesser text comes first. groups has a number for each standing, or None.
+    """
     found = []
     for standing in machine.reached:
-        ring = shortest_ring(machine, standing)
-        if ring is not None:
+        further = shortest_return(machine, standing, groups)
+        if further is not None:
             road = walk.roads[standing]
-            found.append((2 * len(road) + len(ring), road, road + ring))
+            found.append((2 * len(road) + len(further), road, road + further))
     for pair in walk.costs:
-        if is_meeting(pair):
-            begin, first, second = walk.texts_to(pair)
-            found.append((walk.costs[pair], begin + first, begin + second))
+        first, second, first_lead, second_lead = pair
+        if first_lead == "" and second_lead == "" and is_one_group(groups, first, second):
+            begin, one, two = walk.texts_to(pair)
+            found.append((walk.costs[pair], begin + one, begin + two))
             break
     if len(found) == 0:
         return None

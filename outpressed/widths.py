@@ -14,3 +14,10 @@ def number_bits(number, options):
         return ""
     digits = f"{number:b}"
     return digits.zfill(bits)
+
+
+def index_words(many):
+    """For each one of so many letters its index as bits, but with at least one bit."""
+    # A single letter would need no bit, and its texts would not come back.
+    options = max(many, 2)
+    return [number_bits(index, options) for index in range(many)]

@@ -152,11 +152,13 @@ def is_twin_pair(machine, one, two):
     return one != two and run_slowly(machine, one) == run_slowly(machine, two)
 
 
-def fewest_slowly(machine, longest):
-    """The fewest letters together of twins with at most so many letters each, or None."""
+def fewest_slowly(machine, longest, lot=None):
+    """The fewest letters together of twins, in the lot, with at most so many letters each, or None."""
     found = None
     seen = {}
     for text in texts_up_to(machine.alphabet, longest):
+        if lot is not None and text not in lot:
+            continue
         end = run_slowly(machine, text)
         if end in seen:
             letters = len(seen[end]) + len(text)
@@ -244,3 +246,177 @@ def late_rules(letters, alphabet="ab"):
             row.append((texts.index((text + letter)[-letters:]), word))
         rules.append(row)
     return rules
+
+
+def lot_places_slowly(machine, lot):
+    """All reached lot places."""
+    found = {(0, 0)}
+    while True:
+        further = {(machine.rules[p][k][0], lot.rows[a][1][k]) for p, a in found
+                   for k in range(len(lot.alphabet))} - found
+        if not further:
+            return sorted(found)
+        found |= further
+
+
+def raised(kind, call, *given, **named):
+    """The fields of the error of just this kind that the call raises."""
+    try:
+        answer = call(*given, **named)
+    except kind as error:
+        if type(error) is not kind:
+            raise
+        return tuple(vars(error).values())
+    raise AssertionError(f"{kind.__name__} was not raised, but {answer!r} returned")
+
+
+# Builds, as strings.
+
+def expansions(symbol):
+    """What may stand for a symbol of the grammar of point 52: sequences of characters and symbols."""
+    kind, more = symbol
+    if kind == "build":
+        return [[("step", more), ("rest", None)]]
+    if kind == "rest":
+        return [[], [">", ("step", "01"), ("rest", None)]]
+    if kind == "word":
+        return [["-"], ["0", ("bits", 11)], ["1", ("bits", 11)]]
+    if kind == "bits":
+        return [[]] + ([["0", ("bits", more - 1)], ["1", ("bits", more - 1)]] if more else [])
+    inner = ("build", more)
+    found = [list("plain"), [*"code(", *in_brackets(("word", None), len(more))], [*"late(", inner, ")"],
+             [*"after(", *in_brackets(inner, len(more))]]
+    found += [[*"turns(", *in_brackets(inner, many)] for many in (1, 2, 3, 4)]
+    return found + [[*"blocks(", digit, ")"] for digit in "123456789"]
+
+
+def in_brackets(symbol, many):
+    return [symbol] + [",", symbol] * (many - 1) + [")"]
+
+
+def bad_index_slowly(alphabet, text):
+    """The index of BadBuild, or None, by point 52: all derivations are followed side by side."""
+    stacks = {(("build", alphabet),)}
+    for index, letter in enumerate(text):
+        later, todo = set(), list(stacks)
+        while todo:
+            first, *rest = todo.pop() or [None]
+            if isinstance(first, tuple):
+                todo += [tuple(symbols) + tuple(rest) for symbols in expansions(first)]
+            elif first == letter:
+                later.add(tuple(rest))
+        if not later:
+            return index
+        stacks = later
+    complete = any(all(symbol[0] in ("rest", "bits") for symbol in stack) for stack in stacks)
+    return None if complete else len(text)
+
+
+def split_outside(text, sign):
+    """The parts of the text between signs that stand in no brackets."""
+    parts, depth = [""], 0
+    for letter in text:
+        depth += (letter == "(") - (letter == ")")
+        if letter == sign and depth == 0:
+            parts.append("")
+        else:
+            parts[-1] += letter
+    return parts
+
+
+def step_parts(step):
+    """The name of a step and what stands between its brackets, part by part."""
+    name, _, inner = step.partition("(")
+    return name, split_outside(inner[:-1], ",")
+
+
+def plain_slowly(alphabet, letter):
+    return format(alphabet.index(letter), "b").zfill(max(1, (len(alphabet) - 1).bit_length()))
+
+
+def given_to_builds(name, many, alphabet, text):
+    """For each of the builds of turns or after the indexes of the letters that it is given."""
+    taken = [[] for _ in range(many)]
+    for index in range(len(text)):
+        if name == "turns":
+            taken[index % many].append(index)
+        else:
+            taken[alphabet.index(text[index - 1]) if index else 0].append(index)
+    return taken
+
+
+def words_slowly(build, alphabet, text):
+    """The words that a build writes for the letters of the text, by point 53."""
+    first, *further = split_outside(build, ">")
+    words = step_words_slowly(first, alphabet, text)
+    for step in further:
+        written = iter(step_words_slowly(step, "01", "".join(words)))
+        words = ["".join(next(written) for _ in word) for word in words]
+    return words
+
+
+def step_words_slowly(step, alphabet, text):
+    from outpressed.blocks import press
+    name, parts = step_parts(step)
+    if name == "plain":
+        return [plain_slowly(alphabet, letter) for letter in text]
+    if name == "code":
+        return [parts[alphabet.index(letter)].replace("-", "") for letter in text]
+    if name == "blocks":
+        length = int(parts[0])
+        return [press(alphabet, text[end - length:end]) if end % length == 0 else ""
+                for end in range(1, len(text) + 1)]
+    if name == "late":
+        return ([""] + words_slowly(parts[0], alphabet, text[:-1]))[:len(text)]
+    words = [None] * len(text)
+    for build, taken in zip(parts, given_to_builds(name, len(parts), alphabet, text)):
+        for index, word in zip(taken, words_slowly(build, alphabet, "".join(text[index] for index in taken))):
+            words[index] = word
+    return words
+
+
+def memory_slowly(build, alphabet, text):
+    """All that the build is in behind the text, by point 53."""
+    found = []
+    for place, step in enumerate(split_outside(build, ">")):
+        if place > 0:
+            alphabet = "01"
+        name, parts = step_parts(step)
+        if name == "blocks":
+            found.append(text[len(text) - len(text) % int(parts[0]):])
+        elif name == "late":
+            found.append((text[-1:], memory_slowly(parts[0], alphabet, text[:-1])))
+        elif name in ("turns", "after"):
+            turn = len(text) % len(parts) if name == "turns" else alphabet.index(text[-1]) if text else 0
+            found.append((turn, [memory_slowly(inner, alphabet, "".join(text[index] for index in taken))
+                                 for inner, taken in zip(parts, given_to_builds(name, len(parts), alphabet, text))]))
+        text = "".join(step_words_slowly(step, alphabet, text))
+    return found
+
+
+def random_word(source, longest=3):
+    return "".join(source.choice("01") for _ in range(source.randint(0, longest))) or "-"
+
+
+def random_build(source, alphabet, depth, steps=3):
+    """A build as a string, with at most so many brackets within one another."""
+    found = []
+    for place in range(source.choice(range(1, steps + 1))):
+        inner = "01" if place else alphabet
+        kind = source.choice(["plain", "code", "code", "blocks"] + (["late", "turns", "after"] if depth > 1 else []))
+        if depth < 1:
+            kind = "plain"
+        many = {"code": len(inner), "blocks": 1, "late": 1, "turns": source.randint(1, 4), "after": len(inner)}
+        if kind == "plain":
+            found.append(kind)
+            continue
+        parts = []
+        for _ in range(many[kind]):
+            if kind == "code":
+                parts.append(random_word(source))
+            elif kind == "blocks":
+                parts.append(str(source.choice((1, 1, 2, 2, 3))))
+            else:
+                parts.append(random_build(source, inner, depth - 1, max(1, steps - 1)))
+        found.append(f"{kind}({','.join(parts)})")
+    return ">".join(found)

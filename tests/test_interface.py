@@ -4,9 +4,10 @@ import importlib
 import inspect
 import unittest
 
-from outpressed import averages, blockmachines, blocks, cuts, duels, excesses, floors, holds, instants, lotcounts, lots
-from outpressed import lotwriting, machines, overtaking, pairs, racing, rates, readbacks, readers, rivals, roundruns
-from outpressed import rounds, sameness, stretches, widths
+from outpressed import averages, blockmachines, blocks, buildmachines, builds, buildwords, cuts, duels, excesses
+from outpressed import floors, grades, holds, instants, leads, lotcounts, lotrates, lotreadbacks, lots, lotwriting
+from outpressed import machines, overtaking, pairs, racing, rates, readbacks, readers, rivals, roundruns, rounds
+from outpressed import sameness, stretches, widths
 from tests.brute import EXAMPLE, are_tuples
 
 FUNCTIONS = {
@@ -41,6 +42,15 @@ FUNCTIONS = {
                   "lot_bits(machine, lot, length)", "lot_lightest(machine, lot, length)",
                   "lot_heaviest(machine, lot, length)"],
     "lotwriting": ["texts_writing(machine, bit_lot)", "written_lot(machine, lot)"],
+    "lotreadbacks": ["lot_room(machine, lot)", "comes_back_on(machine, lot)", "are_lot_twins(machine, lot, one, two)",
+                     "is_lot_paper(machine, lot, table)"],
+    "lotrates": ["goes_through(endless, lot)", "lot_rates(machine, lot)"],
+    "leads": ["greatest_lead(one, two)", "is_lead_paper(one, two, lead, levels)",
+              "is_lead_loop(one, two, begin, loop)"],
+    "builds": [],
+    "buildwords": ["words_of(build, text)"],
+    "buildmachines": ["machine_of_build(build)"],
+    "grades": ["grade(build)"],
 }
 CLASSES = {
     ("cuts", "Cut"): ["__init__(self, alphabet, rows, tail)", "__eq__(self, other)"],
@@ -56,6 +66,10 @@ CLASSES = {
     ("rates", "Rate"): [],
     ("lots", "Lot"): ["__init__(self, alphabet, rows)", "__eq__(self, other)", "__contains__(self, text)",
                       "__invert__(self)", "__and__(self, other)", "__or__(self, other)", "__sub__(self, other)"],
+    ("lotreadbacks", "LotReadback"): [],
+    ("lotrates", "LotRates"): [],
+    ("leads", "Lead"): [],
+    ("builds", "Build"): ["__init__(self, alphabet, text)"],
 }
 
 
@@ -91,7 +105,12 @@ class InterfaceTest(unittest.TestCase):
                                                          " lead"),
                              (rounds.Round("ab", "a", "b"), "alphabet head ring variety"),
                              (rates.least_rate(machine), "rate standing loop levels"),
-                             (lots.lot_of("ab", ["a"]), "alphabet rows")):
+                             (lots.lot_of("ab", ["a"]), "alphabet rows"),
+                             (lotreadbacks.comes_back_on(machine, lots.lot_of("ab", ["a"])), "holds table one two"),
+                             (lotrates.lot_rates(machine, lots.lot_of("ab", ["a"])),
+                              "least greatest least_round greatest_round"),
+                             (leads.greatest_lead(machine, machine), "lead text levels begin loop"),
+                             (builds.Build("ab", "plain"), "alphabet text")):
             for field in fields.split():
                 self.assertIn(field, vars(made))
                 self.assertTrue(are_tuples(getattr(made, field)))
@@ -100,6 +119,7 @@ class InterfaceTest(unittest.TestCase):
         machine = machines.Machine("ab", EXAMPLE)
         endless = rounds.Round("ab", "a", "b")
         lot = lots.lot_of("ab", ["a", "b"])
+        build = builds.Build("ab", "late(plain)")
         for value, kind in ((widths.width(3), int), (widths.number_bits(1, 3), str), (blocks.press("ab", "a"), str),
                             (blocks.pressed_length(2, 3), int), (stretches.fill(3, [1]), int),
                             (machine.run("a"), tuple), (machine("a"), str), (machine.last_after("a"), int),
@@ -134,7 +154,20 @@ class InterfaceTest(unittest.TestCase):
                             (lotcounts.lot_lightest(machine, lot, 1), tuple),
                             (lotcounts.lot_heaviest(machine, lot, 2), type(None)),
                             (lotwriting.texts_writing(machine, lots.lot_of("01", ["1"])), lots.Lot),
-                            (lotwriting.written_lot(machine, lot), lots.Lot)):
+                            (lotwriting.written_lot(machine, lot), lots.Lot),
+                            (lotreadbacks.lot_room(machine, lot), int),
+                            (lotreadbacks.comes_back_on(machine, lot), lotreadbacks.LotReadback),
+                            (lotreadbacks.are_lot_twins(machine, lot, "a", "b"), bool),
+                            (lotreadbacks.is_lot_paper(machine, lot, []), bool),
+                            (lotrates.goes_through(endless, lot), bool),
+                            (lotrates.lot_rates(machine, ~lot), lotrates.LotRates),
+                            (lotrates.lot_rates(machine, ~lot).least, tuple),
+                            (lotrates.lot_rates(machine, ~lot).least_round, rounds.Round),
+                            (leads.greatest_lead(machine, machine), leads.Lead),
+                            (leads.is_lead_paper(machine, machine, 0, []), bool),
+                            (leads.is_lead_loop(machine, machine, "", "a"), bool),
+                            (buildwords.words_of(build, "ab"), tuple),
+                            (buildmachines.machine_of_build(build), machines.Machine), (grades.grade(build), int)):
             self.assertIs(kind, type(value))
             self.assertTrue(are_tuples(value))
 
