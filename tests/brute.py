@@ -3,9 +3,14 @@
 import random
 from itertools import product
 
+from outpressed.blocks import press
+from outpressed.buildmachines import machine_of_build
+from outpressed.builds import Build
 from outpressed.lots import Lot
 from outpressed.machines import Machine
+from outpressed.readbacks import comes_back
 from outpressed.rounds import Round
+from outpressed.sameness import least_machine
 
 
 def texts_of(alphabet, length):
@@ -169,7 +174,6 @@ def fewest_slowly(machine, longest, lot=None):
 
 def coming_back(seed, many, **more):
     """Machines whose texts come back, with at most so many of them."""
-    from outpressed.readbacks import comes_back
     found = []
     for machine in random_machines(seed, 60 * many, **more):
         if comes_back(machine).holds and machine not in found:
@@ -254,6 +258,17 @@ def lot_places_slowly(machine, lot):
     while True:
         further = {(machine.rules[p][k][0], lot.rows[a][1][k]) for p, a in found
                    for k in range(len(lot.alphabet))} - found
+        if not further:
+            return sorted(found)
+        found |= further
+
+
+def pairs_slowly(one, two):
+    """All pairs of last standings of two machines."""
+    found = {(0, 0)}
+    while True:
+        further = {(one.rules[p][k][0], two.rules[q][k][0]) for p, q in found
+                   for k in range(len(one.alphabet))} - found
         if not further:
             return sorted(found)
         found |= further
@@ -356,7 +371,6 @@ def words_slowly(build, alphabet, text):
 
 
 def step_words_slowly(step, alphabet, text):
-    from outpressed.blocks import press
     name, parts = step_parts(step)
     if name == "plain":
         return [plain_slowly(alphabet, letter) for letter in text]
@@ -420,3 +434,153 @@ def random_build(source, alphabet, depth, steps=3):
                 parts.append(random_build(source, inner, depth - 1, max(1, steps - 1)))
         found.append(f"{kind}({','.join(parts)})")
     return ">".join(found)
+
+
+# Grown texts, as rules.
+
+SMALL = ["a", "b", (0, 1), (2, 2)]
+# 2 ** 103 letters are a little more than 10 ** 31, so this text has 2 ** 102.
+LONG = ["a", "b", (0, 1)] + [(k, k) for k in range(2, 103)]
+
+
+def grown_slowly(rules):
+    """The texts of all rules."""
+    texts = []
+    for rule in rules:
+        texts.append(rule if isinstance(rule, str) else texts[rule[0]] + texts[rule[1]])
+    return texts
+
+
+def random_growth(source, alphabet, many, longest):
+    """Rules of all sorts, with texts of at most so many letters."""
+    rules = [source.choice(alphabet)]
+    while len(rules) < many:
+        rule = source.choice([source.choice(alphabet)] + [(source.randrange(len(rules)), source.randrange(len(rules)))
+                                                          for _ in range(3)])
+        if len(grown_slowly(rules + [rule])[-1]) <= longest:
+            rules.append(rule)
+    return rules
+
+
+# Workshops.
+
+GOOD_NAMES = ("a", "z9", "abcdefghijkl", "a23456789012", "q", "plain")
+DEEDS = ("keep", "make", "change", "lead_on", "shorten", "rename", "drop", "undo", "redo")
+
+
+def is_name_slowly(name):
+    letters, digits = "abcdefghijklmnopqrstuvwxyz", "0123456789"
+    return 1 <= len(name) <= 12 and all(sign in letters + digits for sign in name) and name[0] in letters
+
+
+class SlowWorkshop:
+    """A workshop as point 62 tells it: every deed gives the error, as its name and fields, or None."""
+
+    def __init__(self, alphabet):
+        self.alphabet, self.machines, self.done, self.taken = alphabet, {}, [], []
+
+    def new(self, name):
+        if not is_name_slowly(name):
+            return "BadName", name
+        return ("NameTaken", name) if name in self.machines else None
+
+    def do(self, machines):
+        self.done.append(self.machines)
+        self.machines, self.taken = machines, []
+
+    def keep(self, name, machine):
+        wrong = self.new(name)
+        if wrong is None and machine.alphabet != self.alphabet:
+            wrong = "AlphabetsDiffer", self.alphabet, machine.alphabet
+        if wrong is None:
+            self.do({**self.machines, name: machine})
+        return wrong
+
+    def make(self, name, text):
+        wrong = self.new(name)
+        if wrong is None and bad_index_slowly(self.alphabet, text) is not None:
+            wrong = "BadBuild", bad_index_slowly(self.alphabet, text)
+        if wrong is None:
+            self.do({**self.machines, name: machine_of_build(Build(self.alphabet, text))})
+        return wrong
+
+    def change(self, name, standing, letter, following, word):
+        if name not in self.machines:
+            return "NoName", name
+        rules = [list(row) for row in self.machines[name].rules]
+        if standing not in range(len(rules)):
+            return "BadStanding", standing
+        if letter not in list(self.alphabet):
+            return "BadLetter", 0
+        if type(following) is not int or following not in range(len(rules)) or type(word) is not str \
+                or set(word) - set("01"):
+            return "BadRule", standing, letter
+        rules[standing][self.alphabet.index(letter)] = following, word
+        self.do({**self.machines, name: Machine(self.alphabet, rules)})
+
+    def lead_on(self, name, text, other):
+        if name not in self.machines:
+            return "NoName", name
+        wrong = self.new(other)
+        if wrong is None and bad_index_slowly("01", text) is not None:
+            wrong = "BadBuild", bad_index_slowly("01", text)
+        if wrong is None:
+            self.do({**self.machines, other: self.machines[name] >> machine_of_build(Build("01", text))})
+        return wrong
+
+    def shorten(self, name):
+        if name not in self.machines:
+            return "NoName", name
+        self.do({**self.machines, name: least_machine(self.machines[name])})
+
+    def rename(self, name, other):
+        if name not in self.machines:
+            return "NoName", name
+        wrong = self.new(other)
+        if wrong is None:
+            self.do({other if told == name else told: machine for told, machine in self.machines.items()})
+        return wrong
+
+    def drop(self, name):
+        if name not in self.machines:
+            return "NoName", name
+        self.do({told: machine for told, machine in self.machines.items() if told != name})
+
+    def undo(self):
+        if not self.done:
+            return ("NothingToUndo",)
+        self.taken.append(self.machines)
+        self.machines = self.done.pop()
+
+    def redo(self):
+        if not self.taken:
+            return ("NothingToRedo",)
+        self.done.append(self.machines)
+        self.machines = self.taken.pop()
+
+
+def random_deed(source, alphabet, names):
+    """A deed of any sort, as a tuple of its name and its arguments, mostly a good one."""
+    name, other = [source.choice(names + names + ("?", "9", "ghost")) for _ in range(2)]
+    word = source.choice(DEEDS + ("make", "make", "undo", "redo", "change"))
+    if word == "keep":
+        return word, name, source.choice([Machine.plain(alphabet), Machine.plain("0z")])
+    if word == "make":
+        return word, name, source.choice([random_build(source, alphabet, 2, 2), "late(plain)", "turns(plain,plain)",
+                                          "code(0,", "plain>", "late(plain"])
+    if word == "change":
+        return (word, name, source.choice((0, 0, 0, 1, 5, -1, 10 ** 30)), source.choice(alphabet + alphabet + "? "),
+                source.choice((0, 0, 0, 1, 7, -1, True, None, "0")), source.choice(("", "0", "11", "2", None, True, 0)))
+    if word == "lead_on":
+        return word, name, source.choice(["late(plain)", "code(-,1)", "plain", "plan", "late(plain"]), other
+    if word == "rename":
+        return word, name, other
+    return (word,) + ((name,) if word in ("shorten", "drop") else ())
+
+
+def fits(model, deed):
+    """Whether the deed keeps to the bounds: not more than 60 standings and 20 machines behind it."""
+    other = SlowWorkshop(model.alphabet)
+    other.machines, other.done, other.taken = dict(model.machines), list(model.done), list(model.taken)
+    getattr(other, deed[0])(*deed[1:])
+    return len(other.machines) <= 20 and all(machine.standings <= 60 for machine in other.machines.values())

@@ -4,10 +4,10 @@ import importlib
 import inspect
 import unittest
 
-from outpressed import averages, blockmachines, blocks, buildmachines, builds, buildwords, cuts, duels, excesses
-from outpressed import floors, grades, holds, instants, leads, lotcounts, lotrates, lotreadbacks, lots, lotwriting
-from outpressed import machines, overtaking, pairs, racing, rates, readbacks, readers, rivals, roundruns, rounds
-from outpressed import sameness, stretches, widths
+from outpressed import averages, blockmachines, blocks, buildmachines, builds, buildwords, cuts, deeds, duels, evidence
+from outpressed import excesses, floors, grades, grown, grownruns, holds, instants, leads, lotcounts, lotrates
+from outpressed import lotreadbacks, lots, lotwriting, machines, named, overtaking, pairs, racing, rates, readbacks
+from outpressed import readers, rivals, roundruns, rounds, sameness, simplifying, stretches, widths, workshops
 from tests.brute import EXAMPLE, are_tuples
 
 FUNCTIONS = {
@@ -51,6 +51,15 @@ FUNCTIONS = {
     "buildwords": ["words_of(build, text)"],
     "buildmachines": ["machine_of_build(build)"],
     "grades": ["grade(build)"],
+    "simplifying": ["simplified(build)"],
+    "named": ["named_build(name, alphabet)", "named_words(name, alphabet, text)"],
+    "evidence": ["sameness_paper(one, two)", "is_sameness_paper(one, two, table)", "least_paper(machine)",
+                 "is_least_paper(machine, reach, parting)", "best_joins(counts)", "is_best_joins(counts, joins)"],
+    "grown": ["grown_of(alphabet, text)", "powered(grown, times)", "beginning_of(endless, length)"],
+    "grownruns": ["grown_run(machine, grown, *, start=0)", "grown_bits(machine, grown, start, end)",
+                  "grown_in(grown, lot)", "grown_letters(grown)"],
+    "workshops": [],
+    "deeds": ["perform(workshop, deeds)"],
 }
 CLASSES = {
     ("cuts", "Cut"): ["__init__(self, alphabet, rows, tail)", "__eq__(self, other)"],
@@ -70,6 +79,14 @@ CLASSES = {
     ("lotrates", "LotRates"): [],
     ("leads", "Lead"): [],
     ("builds", "Build"): ["__init__(self, alphabet, text)"],
+    ("grown", "Grown"): ["__init__(self, alphabet, rules)", "letter_of(self, index)", "stretch(self, start, end)",
+                         "__add__(self, other)", "__eq__(self, other)"],
+    ("workshops", "Workshop"): ["__init__(self, alphabet)", "keep(self, name, machine)", "make(self, name, text)",
+                                "change(self, name, standing, letter, following, word)",
+                                "lead_on(self, name, text, other)", "shorten(self, name)", "rename(self, name, other)",
+                                "drop(self, name)", "undo(self)", "redo(self)", "machine_of(self, name)",
+                                "is_sure(self, name)", "lead_between(self, name, other)", "ranking(self, text)",
+                                "alike(self, name)", "__contains__(self, name)", "__len__(self)", "__iter__(self)"],
 }
 
 
@@ -110,7 +127,9 @@ class InterfaceTest(unittest.TestCase):
                              (lotrates.lot_rates(machine, lots.lot_of("ab", ["a"])),
                               "least greatest least_round greatest_round"),
                              (leads.greatest_lead(machine, machine), "lead text levels begin loop"),
-                             (builds.Build("ab", "plain"), "alphabet text")):
+                             (builds.Build("ab", "plain"), "alphabet text"),
+                             (grown.Grown("ab", ["a"]), "alphabet rules lengths size"),
+                             (workshops.Workshop("ab"), "alphabet")):
             for field in fields.split():
                 self.assertIn(field, vars(made))
                 self.assertTrue(are_tuples(getattr(made, field)))
@@ -120,6 +139,8 @@ class InterfaceTest(unittest.TestCase):
         endless = rounds.Round("ab", "a", "b")
         lot = lots.lot_of("ab", ["a", "b"])
         build = builds.Build("ab", "late(plain)")
+        text = grown.grown_of("ab", "ab")
+        workshop = workshops.Workshop("ab")
         for value, kind in ((widths.width(3), int), (widths.number_bits(1, 3), str), (blocks.press("ab", "a"), str),
                             (blocks.pressed_length(2, 3), int), (stretches.fill(3, [1]), int),
                             (machine.run("a"), tuple), (machine("a"), str), (machine.last_after("a"), int),
@@ -167,7 +188,25 @@ class InterfaceTest(unittest.TestCase):
                             (leads.is_lead_paper(machine, machine, 0, []), bool),
                             (leads.is_lead_loop(machine, machine, "", "a"), bool),
                             (buildwords.words_of(build, "ab"), tuple),
-                            (buildmachines.machine_of_build(build), machines.Machine), (grades.grade(build), int)):
+                            (buildmachines.machine_of_build(build), machines.Machine), (grades.grade(build), int),
+                            (simplifying.simplified(build), builds.Build),
+                            (named.named_build("held", "ab"), builds.Build),
+                            (named.named_words("held", "ab", "ab"), tuple),
+                            (evidence.sameness_paper(machine, machine), tuple),
+                            (evidence.is_sameness_paper(machine, machine, []), bool),
+                            (evidence.least_paper(machine), tuple),
+                            (evidence.is_least_paper(machine, [], []), bool), (evidence.best_joins([1, 2]), tuple),
+                            (evidence.is_best_joins([1, 2], []), bool), (text, grown.Grown), (text + text, grown.Grown),
+                            (text == text, bool), (text == 0, bool), (text.letter_of(1), str), (text.stretch(0, 1), str),
+                            (grown.powered(text, 2), grown.Grown), (grown.beginning_of(endless, 2), grown.Grown),
+                            (grownruns.grown_run(machine, text), tuple),
+                            (grownruns.grown_bits(machine, text, 0, 1), str), (grownruns.grown_in(text, lot), bool),
+                            (grownruns.grown_letters(text), tuple), (workshop.make("x", "plain"), type(None)),
+                            (workshop.undo(), type(None)), (workshop.redo(), type(None)),
+                            (workshop.machine_of("x"), machines.Machine), (workshop.is_sure("x"), bool),
+                            (workshop.lead_between("x", "x"), int), (workshop.ranking("a"), tuple),
+                            (workshop.alike("x"), tuple), ("x" in workshop, bool), (len(workshop), int),
+                            (deeds.perform(workshop, [["drop", "x"]]), tuple)):
             self.assertIs(kind, type(value))
             self.assertTrue(are_tuples(value))
 

@@ -15,7 +15,7 @@ import warnings
 ROOT = os.path.join(os.path.dirname(os.path.dirname(os.path.abspath(__file__))), "outpressed")
 LIBRARY = {"heapq": {"heappush", "heappop", "heapify"}, "math": {"gcd", "lcm", "isqrt"}}
 BUILTINS = set("""len range enumerate zip min max sum abs sorted reversed int str bool list tuple dict set isinstance
-    ord any all divmod ValueError property staticmethod super""".split())
+    ord any all divmod iter ValueError property staticmethod super""".split())
 VALUE_METHODS = set("""append clear copy count endswith extend find get index insert isalnum isalpha isdigit islower
     isspace isupper items join keys ljust lower lstrip partition pop remove replace reverse rfind rjust rpartition
     rsplit rstrip setdefault split splitlines startswith strip update upper values zfill bit_length""".split())
@@ -30,7 +30,7 @@ NODES = (ast.Module, ast.ImportFrom, ast.alias, ast.FunctionDef, ast.ClassDef, a
          ast.Raise, ast.Delete, ast.Try, ast.ExceptHandler, ast.Constant, ast.Name, ast.Attribute, ast.Subscript,
          ast.Slice, ast.Call, ast.keyword, ast.Tuple, ast.List, ast.Dict, ast.ListComp, ast.DictComp, ast.SetComp,
          ast.comprehension, ast.BinOp, ast.BoolOp, ast.UnaryOp, ast.Compare, ast.IfExp, ast.JoinedStr,
-         ast.FormattedValue, ast.expr_context, ast.operator, ast.boolop, ast.unaryop, ast.cmpop)
+         ast.FormattedValue, ast.Starred, ast.expr_context, ast.operator, ast.boolop, ast.unaryop, ast.cmpop)
 OPERATORS = DOUBLE - {"__init__", "__call__", "__iter__"}
 LIBRARY_WORDS = {word for words in LIBRARY.values() for word in words}
 ON_THE_SPOT = {"zip", "enumerate", "reversed", "range", "items", "keys", "values"}
@@ -156,6 +156,10 @@ class LanguageTest(unittest.TestCase):
                 self.assertTrue(ast.unparse(node.body[0]).startswith("return isinstance(other, "))
             if node.name == "__init__":
                 self.assertFalse([one for one in ast.walk(node) if isinstance(one, ast.Return)])
+            if node.name == "__len__":
+                self.assertRegex(ast.unparse(node.body[-1]), r"^return len\(")
+            if node.name == "__iter__":
+                self.assertRegex(ast.unparse(node.body), r"^return iter\(self\.\w+\)$")
 
     def test_names(self):
         for name, node in self.nodes:
@@ -214,6 +218,12 @@ class LanguageTest(unittest.TestCase):
                 self.assertIn(word, VALUE_METHODS | self.methods, where)
             if isinstance(node.func, ast.Attribute) and word in VALUE_METHODS:
                 self.assertEqual([], node.keywords, where)
+            if word == "iter":
+                self.assertIsInstance(node.parent, ast.Return, where)
+            for entry in node.args:
+                if isinstance(entry, ast.Starred):
+                    # Only own methods are called with a star, and what is behind it has a plain name.
+                    self.assertTrue(word in self.methods and isinstance(entry.value, ast.Name), where)
             if word in ON_THE_SPOT:
                 parent = node.parent
                 if isinstance(parent, (ast.For, ast.comprehension)):

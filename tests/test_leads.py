@@ -6,22 +6,11 @@ import unittest
 from outpressed.errors import AlphabetsDiffer, BadLetter, TooLarge
 from outpressed.leads import Lead, greatest_lead, is_lead_loop, is_lead_paper
 from outpressed.machines import Machine
-from tests.brute import (EXAMPLE, are_tuples, late_rules, raised, random_machines, random_rules, run_slowly,
-                         texts_up_to)
+from tests.brute import (EXAMPLE, are_tuples, late_rules, pairs_slowly, raised, random_machines, random_rules,
+                         run_slowly, texts_up_to)
 
 PLAIN = Machine.plain("ab")
 CODE = Machine("ab", [[(0, "0"), (0, "11")]])
-
-
-def pairs_slowly(one, two):
-    """All pairs of last standings."""
-    found = {(0, 0)}
-    while True:
-        further = {(one.rules[p][k][0], two.rules[q][k][0]) for p, q in found
-                   for k in range(len(one.alphabet))} - found
-        if not further:
-            return sorted(found)
-        found |= further
 
 
 def lead_of(one, two, text, pair=(0, 0)):
