@@ -1,6 +1,6 @@
 """How many bits more one machine writes than another one, with evidence."""
 
-from outpressed.alphabets import check_same_alphabet, check_text
+from outpressed.alphabets import check_same_alphabet
 from outpressed.errors import TooLarge
 from outpressed.kinds import as_tuples
 from outpressed.machines import nexts_of
@@ -98,8 +98,6 @@ def is_enough(one, two, pair, told):
 def is_lead_loop(one, two, begin, loop):
     """Whether the loop, behind the beginning, comes round with more bits of the one machine."""
     check_same_alphabet(one.alphabet, two.alphabet)
-    check_text(one.alphabet, begin)
-    check_text(one.alphabet, loop)
     first = one.last_after(begin)
     second = two.last_after(begin)
     more, ahead = one.run(loop, start=first)

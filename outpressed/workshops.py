@@ -3,9 +3,8 @@
 from outpressed.alphabets import LETTERS, check_alphabet, check_same_alphabet, check_text, is_letter
 from outpressed.builds import Build
 from outpressed.buildmachines import machine_of_build
-from outpressed.errors import (BadLetter, BadName, BadRule, BadStanding, NameTaken, NoName, NothingToRedo,
-                               NothingToUndo)
-from outpressed.kinds import is_bits, is_number_below
+from outpressed.errors import BadLetter, BadName, BadStanding, NameTaken, NoName, NothingToRedo, NothingToUndo
+from outpressed.kinds import is_number_below
 from outpressed.leads import greatest_lead
 from outpressed.machines import Machine
 from outpressed.readbacks import comes_back
@@ -48,10 +47,9 @@ class Workshop:
             raise BadStanding(standing)
         if not is_letter(self.alphabet, letter):
             raise BadLetter(0)
-        if not is_number_below(following, machine.standings) or not is_bits(word):
-            raise BadRule(standing, letter)
         rules = [list(row) for row in machine.rules]
         rules[standing][self.alphabet.index(letter)] = (following, word)
+        # All other rules are right, so BadRule can only be raised for this one.
         self._replace(name, name, Machine(self.alphabet, rules))
 
     def lead_on(self, name, text, other):

@@ -121,17 +121,19 @@ class GreatestLeadTest(unittest.TestCase):
         self.assertEqual((0, (((0, 0), 0),)), (answer.lead, answer.levels))
 
     def test_the_bound(self):
-        # Both count letters, the one up to 20 and the other one beyond, so 20 * 21 pairs are reached, or 20 * 20.
-        def counting(letter, standings):
-            return Machine("ab", [[((k + (letter == "a")) % standings, "0"), ((k + (letter == "b")) % standings, "1")]
-                                  for k in range(standings)])
-        for standings, many in ((19, 380), (20, 400), (21, 420), (60, 1200)):
-            one, two = counting("a", 20), counting("b", standings)
-            self.assertEqual(many, len(pairs_slowly(one, two)))
-            if many > 400:
-                self.assertEqual((many,), raised(TooLarge, greatest_lead, one, two))
-            else:
-                self.assertEqual((0, many), (greatest_lead(one, two).lead, len(greatest_lead(one, two).levels)))
+        # Rings of 20 and of 19 standings are in 380 pairs, and a beginning adds one pair for each of its letters.
+        ring = Machine("a", [[((k + 1) % 19, "0")] for k in range(19)])
+        for letters in (0, 19, 20, 21, 40):
+            one = Machine("a", [[(k + 1 if k < letters + 19 else letters, "0")] for k in range(letters + 20)])
+            self.assertEqual(380 + letters, len(pairs_slowly(one, ring)))
+            for first, second in ((one, ring), (ring, one)):
+                if letters > 20:
+                    self.assertEqual((380 + letters,), raised(TooLarge, greatest_lead, first, second))
+                else:
+                    answer = greatest_lead(first, second)
+                    self.assertEqual((0, 380 + letters), (answer.lead, len(answer.levels)))
+        large = [Machine("ab", [[((k + 1) % many, "0"), (k, "1")] for k in range(many)]) for many in (60, 59)]
+        self.assertEqual((3540,), raised(TooLarge, greatest_lead, *large))
 
     def test_long_ways(self):
         chain = Machine("ab", [[(min(k + 1, 59), "0" * 40), (0, "")] if k < 59 else [(59, ""), (59, "")]

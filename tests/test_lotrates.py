@@ -152,17 +152,16 @@ class LotRatesTest(unittest.TestCase):
         self.assertEqual(((1, 1), (1, 1)), (answer.least, answer.greatest))
 
     def test_the_bound(self):
-        # A ring of 20 standings beside a ring of 19 is met in 380 lot places, beside one of 21 in 420.
-        def ring(standings):
-            return Lot("ab", [(k == 0, ((k + 1) % standings, k)) for k in range(standings)])
-        machine = Machine("ab", [[((k + 1) % 20, "0"), ((k + 1) % 20, "1" * (k % 3))] for k in range(20)])
-        for standings, many in ((19, 380), (20, 400), (21, 420), (60, 1200)):
-            lot = ring(standings)
-            self.assertEqual(many, len(lot_places_slowly(machine, lot)))
-            if many > 400:
-                self.assertEqual((many,), raised(TooLarge, lot_rates, machine, lot))
+        # Rings of 20 and of 19 standings are in 380 lot places, and a beginning adds one for each of its letters.
+        lot = Lot("a", [(k == 0, [(k + 1) % 19]) for k in range(19)])
+        for letters in (0, 19, 20, 21, 40):
+            machine = Machine("a", [[(k + 1 if k < letters + 19 else letters, "0" * (k % 2))]
+                                    for k in range(letters + 20)])
+            self.assertEqual(380 + letters, len(lot_places_slowly(machine, lot)))
+            if letters > 20:
+                self.assertEqual((380 + letters,), raised(TooLarge, lot_rates, machine, lot))
             else:
-                self.assertIsNotNone(self.check(machine, lot).least)
+                self.assertEqual((1, 2), self.check(machine, lot).least)
 
     def test_places_that_lead_nowhere_are_counted_too(self):
         # The machine counts the letters a, so behind k letters of a text of the lot there are k + 1 lot places, and
